@@ -1,0 +1,1 @@
+"""Wires on two layers, with the fewest vias: see viaboard.board.answers."""

@@ -1,6 +1,7 @@
 """What the tests share: calls written out as lists, and a slow, plain reading of the document to compare with."""
 
 from fractions import Fraction
+from itertools import product
 
 from viaboard.board import answers
 
@@ -14,6 +15,9 @@ WIRES = [6]
 COUNTS = [7]
 CONFLICTS = [8]
 RING = [10]
+PARTS = [11]
+BEST = [12]
+GREEDY = [13]
 
 
 def rules(clearance, radius):
@@ -26,6 +30,11 @@ def row_wire(net, radius, row):
 
 def wire(net, radius, *points):
     return row_wire(net, radius, [number for point in points for number in point])
+
+
+def straight(bars, net=0, y=0):
+    """A wire of that many bars of 100, all in one line."""
+    return wire(net, 1, *[(100 * k, y) for k in range(bars + 1)])
 
 
 def away(number):
@@ -42,6 +51,49 @@ def price(number, corner, amount):
 
 def corner(number, place):
     return [9, number, place]
+
+
+def row_call(number, row):
+    return [number, len(row)] + list(row)
+
+
+def check(row):
+    return row_call(14, row)
+
+
+def cost(row):
+    return row_call(15, row)
+
+
+def vias(row):
+    return row_call(16, row)
+
+
+def layer(k, row):
+    return [17, k, len(row)] + list(row)
+
+
+def less(number):
+    return [18, number]
+
+
+def flip(bar, row):
+    return [19, bar, len(row)] + list(row)
+
+
+def descend(row):
+    return row_call(20, row)
+
+
+def bad_rows(count):
+    """Rows that aren't rows of layers for that many bars."""
+    good = [1 + k % 2 for k in range(count)]
+    found = [good + [1], good + [2, 1], [1] * 10000, [2] * (count + 96)]
+    if count > 0:
+        found += [good[:-1], good[1:], [], [0] * count, [3] * count, [LOW] * count, [HIGH] * count]
+    for k in range(count):
+        found += [good[:k] + [wrong] + good[k + 1:] for wrong in (0, 3, -1, -2, LOW, HIGH)]
+    return found
 
 
 def split(numbers):
@@ -91,6 +143,17 @@ def bars_square(a, b, c, d):
         if 0 <= s <= 1 and 0 <= t <= 1:
             return Fraction(0)
     return ends
+
+
+def vias_of(corners, row):
+    """How many of the corners lie between bars on unlike layers, and what they cost."""
+    prices = [c[2] for c in corners if row[c[3]] != row[c[3] + 1]]
+    return [len(prices), sum(prices)]
+
+
+def turn_part(part, head, row):
+    """The row with the layers of one part's bars changed."""
+    return [3 - here if part[k] == head else here for k, here in enumerate(row)]
 
 
 class Model:
@@ -258,9 +321,135 @@ class Model:
                 return [c[3], c[2], self.reason(c)]
         return [-5]
 
+    def is_row(self, row):
+        return len(row) == len(self.bars()) and all(number in (1, 2) for number in row)
+
+    def unkept(self, row):
+        """The links that a row doesn't keep, as check tells them."""
+        found = [[1, i, j] for i, j in self.conflicts() if row[i] == row[j]]
+        found += [[2, c[3], c[3] + 1] for c in self.corners() if self.reason(c) != 0 and row[c[3]] != row[c[3] + 1]]
+        return found + [[3, k, bar[4]] for k, bar in enumerate(self.bars()) if bar[4] != 0 and row[k] != bar[4]]
+
+    def usable(self):
+        """The corners that aren't barred."""
+        return [c for c in self.corners() if self.reason(c) == 0]
+
+    def right_rows(self):
+        """All right rows: of all rows on small boards, else by what parts leave open."""
+        count = len(self.bars())
+        if count <= 6:
+            return [list(row) for row in product((1, 2), repeat=count) if not self.unkept(row)]
+        layers, part = self.colours(self.links())
+        free = sorted(set(part) - {part[-1]})
+        found = []
+        for chosen in product((1, 2), repeat=len(free)):
+            turned = dict(zip(free, chosen))
+            turned[part[-1]] = layers[-1]
+            found.append([layers[k] if turned[part[k]] == 1 else 3 - layers[k] for k in range(count)])
+        return found
+
+    def row_told(self, row):
+        return [vias_of(self.usable(), row)[1], len(row)] + list(row)
+
+    def do_parts(self):
+        found = self.colours(self.links())
+        if found is None:
+            return [-8]
+        return [len(found[0])] + [number for k, side in zip(found[1], found[0]) for number in (k, side - 1)]
+
+    def do_best(self):
+        if self.free_parts() == -1:
+            return [-8]
+        if self.free_parts() > 12:
+            return [-9]
+        usable = self.usable()
+        return self.row_told(min(self.right_rows(), key=lambda row: (vias_of(usable, row)[1], row)))
+
+    def do_greedy(self):
+        found = self.colours(self.links())
+        if found is None:
+            return [-8]
+        layers, part = found
+        usable = self.usable()
+        row = [k if layers[-1] == 1 else 3 - k for k in layers]
+        settled = {part[-1]}
+        for head in sorted(set(part) - settled):
+            settled.add(head)
+            seen = [c for c in usable if part[c[3]] in settled and part[c[3] + 1] in settled]
+            with_one = [layers[k] if part[k] == head else here for k, here in enumerate(row)]
+            with_two = [3 - layers[k] if part[k] == head else here for k, here in enumerate(row)]
+            row = with_two if vias_of(seen, with_two)[1] < vias_of(seen, with_one)[1] else with_one
+        return self.row_told(row[:-1])
+
+    def do_check(self, row):
+        if not self.is_row(row):
+            return [-3]
+        found = self.unkept(row)
+        return [len(found)] + [number for link in found for number in link]
+
+    def do_cost(self, row):
+        return vias_of(self.usable(), row) if self.is_row(row) else [-3]
+
+    def do_vias(self, row):
+        if not self.is_row(row):
+            return [-3]
+        points = [c[1] for c in self.usable() if row[c[3]] != row[c[3] + 1]]
+        return [len(points)] + [number for point in points for number in point]
+
+    def do_layer(self, k, row):
+        if k not in (1, 2):
+            return [-2]
+        if not self.is_row(row):
+            return [-3]
+        found = [[bar[1], *bar[2], *bar[3]] for bar, here in zip(self.bars(), row) if here == k]
+        return [len(found)] + [number for bar in found for number in bar]
+
+    def do_less(self, number):
+        if not 0 <= number < len(self.wires):
+            return [-1]
+        other = Model()
+        other.clearance = self.clearance
+        other.via = self.via
+        other.wires = [w for k, w in enumerate(self.wires) if k != number]
+        return other.do_best()[:1]
+
+    def do_flip(self, bar, row):
+        found = self.colours(self.links())
+        if found is None:
+            return [-8]
+        if not 0 <= bar < len(self.bars()):
+            return [-6]
+        if not self.is_row(row):
+            return [-3]
+        if found[1][bar] == found[1][-1]:
+            return [-7]
+        return [len(row)] + turn_part(found[1], found[1][bar], row)
+
+    def do_descend(self, row):
+        found = self.colours(self.links())
+        if found is None:
+            return [-8]
+        if not self.is_row(row):
+            return [-3]
+        if self.unkept(row):
+            return [-10]
+        usable = self.usable()
+        free = sorted(set(found[1]) - {found[1][-1]})
+        while True:
+            turned = [turn_part(found[1], head, row) for head in free]
+            cheaper = [other for other in turned if vias_of(usable, other)[1] < vias_of(usable, row)[1]]
+            if not cheaper:
+                return self.row_told(row)
+            row = cheaper[0]
+
     def answer(self, call):
         """The numbers answered to one call, written as a list."""
         number, rest = call[0], call[1:]
+        if number in (14, 15, 16, 20):
+            told = {14: self.do_check, 15: self.do_cost, 16: self.do_vias, 20: self.do_descend}
+            return told[number](rest[1:])
+        if number in (17, 19):
+            return {17: self.do_layer, 19: self.do_flip}[number](rest[0], rest[2:])
         if number == 1:
             return self.do_wire(rest[0], rest[1], rest[3:])
         if number == 3:
@@ -274,5 +463,5 @@ class Model:
             ring = self.ring()
             return [len(ring)] + ring
         plain = {0: self.do_rules, 2: self.do_away, 6: self.do_wires, 7: self.do_counts, 8: self.do_conflicts,
-                 9: self.do_corner}
+                 9: self.do_corner, 11: self.do_parts, 12: self.do_best, 13: self.do_greedy, 18: self.do_less}
         return plain[number](*rest)

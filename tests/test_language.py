@@ -76,6 +76,27 @@ class Language(unittest.TestCase):
                 self.assertEqual(len(node.generators), 1)
                 self.assertLessEqual(len(node.generators[0].ifs), 1)
 
+    def test_what_is_walked_at_once(self):
+        walked = ("zip", "enumerate", "reversed", "range")
+        takers = "list tuple dict sorted sum any all enumerate zip min max".split()
+        for name, tree in trees():
+            spots = []
+            for node in ast.walk(tree):
+                if isinstance(node, (ast.For, ast.comprehension)):
+                    spots.append(node.iter)
+                if isinstance(node, ast.Call) and getattr(node.func, "id", "") in takers:
+                    spots += node.args[:1]
+            for node in ast.walk(tree):
+                if isinstance(node, ast.Call):
+                    kept = getattr(node.func, "id", "") in walked or (
+                        getattr(node.func, "attr", "") in ("items", "keys", "values"))
+                    self.assertTrue(not kept or any(node is spot for spot in spots), (name, node.lineno))
+
+    def test_is_stands_beside_none_alone(self):
+        for name, node in walk():
+            if isinstance(node, ast.Compare) and any(isinstance(op, (ast.Is, ast.IsNot)) for op in node.ops):
+                self.assertIsInstance(node.comparators[0], ast.Constant, name)
+
     def test_imports(self):
         drawn = {path.stem: [] for path in files()}
         for path, tree in trees():

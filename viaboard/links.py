@@ -6,6 +6,8 @@ The ground is the number behind all bars.
 
 from viaboard.wire import bar_starts
 
+GROUND_LAYER = 1
+
 
 class Parts:
     """What follows from the links, taken in order as far as one row can keep them all.
@@ -57,6 +59,12 @@ def make_links(wires, conflicts, reasons):
     for k, wire in enumerate(wires):
         links.extend([(starts[k] + bar, ground, layer - 1) for bar, layer in enumerate(wire.fixed) if layer != 0])
     return links
+
+
+def missed_links(links, row):
+    """The links that a row of layers doesn't keep."""
+    layers = row + [GROUND_LAYER]
+    return [link for link in links if abs(layers[link[0]] - layers[link[1]]) != link[2]]
 
 
 def find_ring(size, links, broken):

@@ -2,6 +2,7 @@
 
 from viaboard.links import Parts, make_links
 from viaboard.nearness import fill_gaps, find_conflicts, find_crowding
+from viaboard.vias import find_sites
 from viaboard.wire import Wire, bar_starts
 
 # Why a corner at the price 0 is barred; the other reasons are those of crowding.
@@ -21,11 +22,13 @@ class Board:
         self.crowding = None
         self.links = None
         self.parts = None
+        self.sites = None
 
     def forget_links(self):
         """Drops what prices and fixed bars tell."""
         self.links = None
         self.parts = None
+        self.sites = None
 
     def forget_nearness(self):
         """Drops what rules and wires tell."""
@@ -69,6 +72,15 @@ class Board:
         self.wires[number].prices[corner] = price
         self.forget_links()
 
+    def without(self, number):
+        """Another board, without one wire, to be asked alone: it shares the other wires and what is measured."""
+        lesser = Board()
+        lesser.clearance = self.clearance
+        lesser.via_radius = self.via_radius
+        lesser.wires = self.wires[:number] + self.wires[number + 1:]
+        lesser.gaps = self.gaps
+        return lesser
+
     def work_out_nearness(self):
         """Makes sure that conflicts and crowding are known."""
         if self.conflicts is None:
@@ -77,12 +89,18 @@ class Board:
             self.crowding = find_crowding(self.wires, self.gaps, self.clearance, self.via_radius)
 
     def work_out_parts(self):
-        """Makes sure that links and parts are known."""
+        """Makes sure that links, parts and sites are known."""
         if self.parts is None:
             self.work_out_nearness()
             reasons = [self.wire_reasons(k) for k in range(len(self.wires))]
             self.links = make_links(self.wires, self.conflicts, reasons)
             self.parts = Parts(self.bar_count() + 1, self.links)
+            self.sites = find_sites(self.wires, reasons)
+
+    def has_right_row(self):
+        """Whether some row is right."""
+        self.work_out_parts()
+        return self.parts.broken == -1
 
     def wire_reasons(self, number):
         """Why each corner of a wire is barred, or 0; nearness must be known."""
